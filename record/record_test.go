@@ -387,6 +387,24 @@ func TestValidSides(t *testing.T) {
 	}
 }
 
+// Promise 12.2: commands apart from records, of so many words, one of which has so many bytes.
+func TestCommand(t *testing.T) {
+	for n := range 20 {
+		if got := record.Command(make([]string, n)); got != (n <= 16) {
+			t.Errorf("%d words: %t", n, got)
+		}
+		for i := range n {
+			for _, size := range []int{1, 199, 200, 201, 1000} {
+				words := make([]string, n)
+				words[i] = strings.Repeat("\xff", size)
+				if got, want := record.Command(words), n <= 16 && size <= 200; got != want {
+					t.Errorf("word %d of %d has %d bytes: %t", i, n, size, got)
+				}
+			}
+		}
+	}
+}
+
 // expectLink checks that Link returns the parts of r.
 func expectLink(t *testing.T, name string, r api.Record) api.Link {
 	t.Helper()
